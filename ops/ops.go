@@ -1,0 +1,44 @@
+// Package ops knows of the operations of formulas what more than one layer asks: how many things each works on, how it binds, and where brackets must stand around what it works on; see shared/doc/07-print.md.
+package ops
+
+import "oriel/api"
+
+// Closest is how what is no operation binds; the operations' levels stand below it.
+const Closest = 7
+
+// May tells whether an operation may be.
+func May(op int) bool { return op >= api.OpNeg && op <= api.OpGe }
+
+// Count is how many things an operation works on.
+func Count(op int) int {
+	if op == api.OpNeg || op == api.OpPct {
+		return 1
+	}
+	return 2
+}
+
+// Level is how an operation binds, from the loosest on.
+func Level(op int) int {
+	switch op {
+	case api.OpEq, api.OpNe, api.OpLt, api.OpLe, api.OpGt, api.OpGe:
+		return 1
+	case api.OpCat:
+		return 2
+	case api.OpAdd, api.OpSub:
+		return 3
+	case api.OpMul, api.OpDiv:
+		return 4
+	case api.OpNeg:
+		return 5
+	case api.OpPct:
+		return 6
+	}
+	return Closest
+}
+
+// InBrackets tells whether what an operation works on at a place (from 0 on) must stand in brackets, if it binds on that level.
+func InBrackets(op, place, level int) bool {
+	own := Level(op)
+	// A row of operations on one level is read from the left: the first of two needs no brackets for that.
+	return level < own || place > 0 && level == own
+}

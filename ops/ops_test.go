@@ -1,0 +1,85 @@
+package ops
+
+import (
+	"math"
+	"testing"
+
+	"oriel/api"
+)
+
+// levels are the operations by how they bind, from the loosest level on.
+func levels() [][]int {
+	return [][]int{
+		{api.OpEq, api.OpNe, api.OpLt, api.OpLe, api.OpGt, api.OpGe},
+		{api.OpCat},
+		{api.OpAdd, api.OpSub},
+		{api.OpMul, api.OpDiv},
+		{api.OpNeg},
+		{api.OpPct},
+	}
+}
+
+func beyond() []int {
+	return []int{math.MinInt, -1, 0, 14, 15, 256 + api.OpNeg, math.MaxInt}
+}
+
+func TestMay(t *testing.T) {
+	for op := 1; op <= 13; op++ {
+		if !May(op) {
+			t.Errorf("May(%d) is false", op)
+		}
+	}
+	for _, op := range beyond() {
+		if May(op) {
+			t.Errorf("May(%d) is true", op)
+		}
+	}
+}
+
+func TestCount(t *testing.T) {
+	for op := 1; op <= 13; op++ {
+		want := 2
+		if op <= 2 {
+			want = 1
+		}
+		if n := Count(op); n != want {
+			t.Errorf("Count(%d) = %d; want %d", op, n, want)
+		}
+	}
+}
+
+func TestLevel(t *testing.T) {
+	seen := 0
+	for i, list := range levels() {
+		for _, op := range list {
+			seen++
+			if n := Level(op); n != i+1 {
+				t.Errorf("Level(%d) = %d; want %d", op, n, i+1)
+			}
+		}
+	}
+	if seen != 13 {
+		t.Errorf("%d operations have a level", seen)
+	}
+	for _, op := range beyond() {
+		if n := Level(op); n != 7 {
+			t.Errorf("Level(%d) = %d; want 7", op, n)
+		}
+	}
+}
+
+// The first of two, and the one of one, stand in brackets if they bind looser; the second also on the same level.
+func TestInBrackets(t *testing.T) {
+	for i, list := range levels() {
+		for _, op := range list {
+			for level := 1; level <= Closest; level++ {
+				if is := InBrackets(op, 0, level); is != (level < i+1) {
+					t.Errorf("InBrackets(%d, 0, %d) is %t", op, level, is)
+				}
+				if is := InBrackets(op, 1, level); is != (level <= i+1) {
+					t.Errorf("InBrackets(%d, 1, %d) is %t", op, level, is)
+				}
+			}
+		}
+	}
+}
