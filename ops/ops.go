@@ -1,10 +1,13 @@
-// Package ops knows of the operations of formulas what more than one layer asks: how many things each works on, how it binds, and where brackets must stand around what it works on; see shared/doc/07-print.md.
+// Package ops knows of the operations of formulas what more than one layer asks: how many things each works on, the signs of those of two, how each binds, and where brackets must stand around what it works on; see shared/doc/07-print.md.
 package ops
 
 import "oriel/api"
 
 // Closest is how what is no operation binds; the operations' levels stand below it.
 const Closest = 7
+
+// signs are those of the operations of two, OpMul to OpGe.
+var signs = [...]string{"*", "/", "+", "-", "&", "=", "<>", "<", "<=", ">", ">="}
 
 // May tells whether an operation may be.
 func May(op int) bool { return op >= api.OpNeg && op <= api.OpGe }
@@ -15,6 +18,16 @@ func Count(op int) int {
 		return 1
 	}
 	return 2
+}
+
+// OfTwo is the operation of two that has this sign.
+func OfTwo(sign string) (int, bool) {
+	for i, one := range signs {
+		if one == sign {
+			return api.OpMul + i, true
+		}
+	}
+	return 0, false
 }
 
 // Level is how an operation binds, from the loosest on.

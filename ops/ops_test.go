@@ -48,6 +48,28 @@ func TestCount(t *testing.T) {
 	}
 }
 
+// The signs of the operations of two; all other texts are none.
+func TestOfTwo(t *testing.T) {
+	known := map[string]int{
+		"*": api.OpMul, "/": api.OpDiv, "+": api.OpAdd, "-": api.OpSub, "&": api.OpCat,
+		"=": api.OpEq, "<>": api.OpNe, "<": api.OpLt, "<=": api.OpLe, ">": api.OpGt, ">=": api.OpGe,
+	}
+	for sign, want := range known {
+		if op, ok := OfTwo(sign); op != want || !ok {
+			t.Errorf("OfTwo(%q) = %d, %t; want %d", sign, op, ok, want)
+		}
+	}
+	others := []string{"", "%", "(", ")", ",", "=<", "=>", "==", "<<", "><", "--", " +", "+ ", "!", "neg", "1"}
+	for b := range 256 {
+		others = append(others, string([]byte{byte(b)}))
+	}
+	for _, sign := range others {
+		if op, ok := OfTwo(sign); known[sign] == 0 && (op != 0 || ok) {
+			t.Errorf("OfTwo(%q) = %d, %t", sign, op, ok)
+		}
+	}
+}
+
 func TestLevel(t *testing.T) {
 	seen := 0
 	for i, list := range levels() {
