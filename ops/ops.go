@@ -1,4 +1,4 @@
-// Package ops knows of the operations of formulas what more than one layer asks: how many things each works on, the signs of those of two, how each binds, and where brackets must stand around what it works on; see shared/doc/07-print.md.
+// Package ops knows of the nodes of formulas what more than one layer asks: how many things each works on, and of the operations their signs, how each binds, and where brackets must stand around what it works on; see shared/doc/07-print.md.
 package ops
 
 import "oriel/api"
@@ -12,12 +12,29 @@ var signs = [...]string{"*", "/", "+", "-", "&", "=", "<>", "<", "<=", ">", ">="
 // May tells whether an operation may be.
 func May(op int) bool { return op >= api.OpNeg && op <= api.OpGe }
 
-// Count is how many things an operation works on.
-func Count(op int) int {
-	if op == api.OpNeg || op == api.OpPct {
+// Takes is how many things a node that may be works on: they stand ahead of it.
+func Takes(n api.Node) int {
+	if n.Kind != api.NodeOp {
+		// What is no call has no Args.
+		return n.Args
+	}
+	if n.Op == api.OpNeg || n.Op == api.OpPct {
 		return 1
 	}
 	return 2
+}
+
+// Sign is an operation's sign; of what is none the empty text.
+func Sign(op int) string {
+	switch {
+	case !May(op):
+		return ""
+	case op == api.OpNeg:
+		return "-"
+	case op == api.OpPct:
+		return "%"
+	}
+	return signs[op-api.OpMul]
 }
 
 // OfTwo is the operation of two that has this sign.

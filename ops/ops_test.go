@@ -36,14 +36,39 @@ func TestMay(t *testing.T) {
 	}
 }
 
-func TestCount(t *testing.T) {
+func TestTakes(t *testing.T) {
 	for op := 1; op <= 13; op++ {
 		want := 2
 		if op <= 2 {
 			want = 1
 		}
-		if n := Count(op); n != want {
-			t.Errorf("Count(%d) = %d; want %d", op, n, want)
+		if n := Takes(api.Node{Kind: api.NodeOp, Op: op}); n != want {
+			t.Errorf("the operation %d takes %d; want %d", op, n, want)
+		}
+	}
+	for args := range 17 {
+		if n := Takes(api.Node{Kind: api.NodeCall, Name: "F", Args: args}); n != args {
+			t.Errorf("a call of %d takes %d", args, n)
+		}
+	}
+	for _, one := range []api.Node{
+		{Kind: api.NodeValue, Value: api.Value{Tag: api.Number, Num: 2}}, {Kind: api.NodeCell, Cell: api.Cell{Row: 1, Col: 1}}, {Kind: api.NodeRect, Rect: api.Rect{Top: 1, Left: 1, Bottom: 2, Right: 2}},
+	} {
+		if n := Takes(one); n != 0 {
+			t.Errorf("%+v takes %d", one, n)
+		}
+	}
+}
+
+func TestSign(t *testing.T) {
+	for i, want := range []string{"-", "%", "*", "/", "+", "-", "&", "=", "<>", "<", "<=", ">", ">="} {
+		if sign := Sign(i + 1); sign != want {
+			t.Errorf("Sign(%d) = %q; want %q", i+1, sign, want)
+		}
+	}
+	for _, op := range beyond() {
+		if sign := Sign(op); sign != "" {
+			t.Errorf("Sign(%d) = %q", op, sign)
 		}
 	}
 }

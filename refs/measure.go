@@ -19,10 +19,10 @@ func measure(nodes []api.Node) (int, bool) {
 	}
 	var things []thing
 	for _, n := range nodes {
-		if !may(n) || takes(n) > len(things) {
+		if !may(n) || ops.Takes(n) > len(things) {
 			return 0, false
 		}
-		rest := len(things) - takes(n)
+		rest := len(things) - ops.Takes(n)
 		left, ok := work(n, things[rest:])
 		if !ok {
 			return 0, false
@@ -33,15 +33,6 @@ func measure(nodes []api.Node) (int, bool) {
 		return 0, false
 	}
 	return things[0].depth, true
-}
-
-// takes is how many things a node works on.
-func takes(n api.Node) int {
-	if n.Kind == api.NodeOp {
-		return ops.Count(n.Op)
-	}
-	// What is no call has no Args.
-	return n.Args
 }
 
 // work is what a node leaves in the place of the things that it works on, if it may work on them.
