@@ -1,0 +1,43 @@
+// Package given knows of the arguments that a function is given what more than one layer asks: whether they are as many single ones as it takes, and may be, and which of them is a fault; see shared/doc/08-nums.md.
+package given
+
+import (
+	"slices"
+
+	"oriel/api"
+	"oriel/value"
+)
+
+// Count is how many arguments a function takes.
+type Count struct {
+	Least int
+	Most  int
+}
+
+// Takes tells whether a function of single arguments takes so many, of which these are rectangles.
+func (c Count) Takes(rects []bool) bool {
+	return c.has(len(rects)) && !slices.Contains(rects, true)
+}
+
+// Singles tells whether arguments are as many as a function takes, and each is a single one that may be.
+func (c Count) Singles(args []api.Arg) bool {
+	return c.has(len(args)) && !slices.ContainsFunc(args, noSingle)
+}
+
+// has tells whether so many are neither too few nor too many.
+func (c Count) has(n int) bool { return c.Least <= n && n <= c.Most }
+
+// noSingle tells whether an argument is a rectangle, or may not be.
+func noSingle(a api.Arg) bool {
+	return a.Many || !value.May(a.Value) || a.Rect != (api.Rect{}) || len(a.Entries) > 0
+}
+
+// Fault is the first fault among single arguments, and whether there is one.
+func Fault(args []api.Arg) (api.Value, bool) {
+	for _, a := range args {
+		if a.Value.Tag == api.Fault {
+			return a.Value, true
+		}
+	}
+	return api.Value{}, false
+}

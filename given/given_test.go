@@ -1,0 +1,91 @@
+package given
+
+import (
+	"math"
+	"slices"
+	"testing"
+
+	"oriel/api"
+)
+
+func number(x int64) api.Arg { return api.Arg{Value: api.Value{Tag: api.Number, Num: x}} }
+func fault(c api.Code) api.Arg {
+	return api.Arg{Value: api.Value{Tag: api.Fault, Code: c}}
+}
+
+// right are single arguments that may be, of each kind.
+func right() []api.Arg {
+	return []api.Arg{
+		{}, number(0), number(math.MaxInt64), number(-math.MaxInt64), fault(1), fault(8), {Value: api.Value{Tag: api.Text}}, {Value: api.Value{Tag: api.Text, Str: "x"}},
+		{Value: api.Value{Tag: api.Bool}}, {Value: api.Value{Tag: api.Bool, Is: true}}, {Entries: []api.Entry{}}, {Entries: make([]api.Entry, 0, 4)},
+	}
+}
+
+// wrong are arguments that are none of those.
+func wrong() []api.Arg {
+	one := number(10000).Value
+	all := api.Rect{Top: 1, Left: 1, Bottom: 2, Right: 2}
+	return []api.Arg{
+		number(math.MinInt64), fault(0), fault(9), {Value: api.Value{Num: 1}}, {Value: api.Value{Tag: 5}}, {Value: api.Value{Tag: api.Bool, Num: 1}},
+		{Value: one, Rect: all}, {Value: one, Rect: api.Rect{Right: 1}}, {Value: one, Entries: []api.Entry{{}}}, {Rect: all}, {Entries: []api.Entry{{}}},
+		{Many: true}, {Many: true, Rect: all}, {Many: true, Value: one}, {Many: true, Rect: all, Entries: []api.Entry{{Cell: api.Cell{Row: 1, Col: 1}, Value: one}}},
+	}
+}
+
+// A count holds both its bounds, and no rectangle.
+func TestTakes(t *testing.T) {
+	for _, c := range []Count{{0, 0}, {1, 1}, {1, 2}, {2, 5}, {1, api.MaxArgs}} {
+		for n := range 20 {
+			rects := make([]bool, n)
+			is := n >= c.Least && n <= c.Most
+			if c.Takes(rects) != is || c.Singles(make([]api.Arg, n)) != is {
+				t.Errorf("%+v: that it takes %d is wrong", c, n)
+			}
+			for i := range rects {
+				one := slices.Clone(rects)
+				one[i] = true
+				if c.Takes(one) {
+					t.Errorf("%+v takes a rectangle at %d of %d", c, i, n)
+				}
+			}
+		}
+	}
+	if one := (Count{0, 3}); !one.Takes(nil) || !one.Singles(nil) || !one.Takes([]bool{}) || !one.Singles([]api.Arg{}) {
+		t.Error("none, nil or empty, are none")
+	}
+}
+
+// Each argument must be a single one that may be.
+func TestSingles(t *testing.T) {
+	three := Count{Least: 3, Most: 3}
+	for i, a := range right() {
+		if !three.Singles([]api.Arg{a, a, a}) {
+			t.Errorf("the right one %d is refused", i)
+		}
+	}
+	for i, a := range wrong() {
+		for at := range 3 {
+			args := slices.Repeat([]api.Arg{number(10000)}, 3)
+			args[at] = a
+			if three.Singles(args) {
+				t.Errorf("the wrong one %d is taken at %d", i, at)
+			}
+		}
+	}
+}
+
+// Of several faults it is the first.
+func TestFault(t *testing.T) {
+	one := number(10000)
+	for _, c := range []struct {
+		args []api.Arg
+		want api.Code
+	}{
+		{nil, 0}, {[]api.Arg{}, 0}, {right()[:4], 0}, {[]api.Arg{fault(3)}, 3}, {[]api.Arg{fault(3), fault(4)}, 3}, {[]api.Arg{one, fault(8), fault(1)}, 8}, {[]api.Arg{one, {}, fault(1)}, 1},
+	} {
+		v, is := Fault(c.args)
+		if is != (c.want != 0) || is && v != fault(c.want).Value || !is && v != (api.Value{}) {
+			t.Errorf("Fault(%+v) = %+v, %v", c.args, v, is)
+		}
+	}
+}
