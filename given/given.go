@@ -1,10 +1,11 @@
-// Package given knows of the arguments that a function is given what more than one layer asks: whether they are as many single ones as it takes, and may be, and which of them is a fault; see shared/doc/08-nums.md.
+// Package given knows of the arguments that a function is given what more than one layer asks: whether they are as many single ones as it takes, and may be, which of them is a fault, and which whole number one is; see shared/doc/08-nums.md.
 package given
 
 import (
 	"slices"
 
 	"oriel/api"
+	"oriel/dec"
 	"oriel/value"
 )
 
@@ -27,17 +28,33 @@ func (c Count) Singles(args []api.Arg) bool {
 // has tells whether so many are neither too few nor too many.
 func (c Count) has(n int) bool { return c.Least <= n && n <= c.Most }
 
-// noSingle tells whether an argument is a rectangle, or may not be.
-func noSingle(a api.Arg) bool {
-	return a.Many || !value.May(a.Value) || a.Rect != (api.Rect{}) || len(a.Entries) > 0
+// Single tells whether an argument is a single one that may be.
+func Single(a api.Arg) bool {
+	return !a.Many && value.May(a.Value) && a.Rect == (api.Rect{}) && len(a.Entries) == 0
 }
 
-// Fault is the first fault among single arguments, and whether there is one.
+// noSingle tells whether an argument is a rectangle, or may not be.
+func noSingle(a api.Arg) bool { return !Single(a) }
+
+// Fault is the first fault among single arguments, and whether there is one; rectangles that stand between them are passed over.
 func Fault(args []api.Arg) (api.Value, bool) {
 	for _, a := range args {
-		if a.Value.Tag == api.Fault {
+		if !a.Many && a.Value.Tag == api.Fault {
 			return a.Value, true
 		}
 	}
 	return api.Value{}, false
+}
+
+// Whole is a value taken for a whole number, or the code that comes of it.
+func Whole(v api.Value) (int64, api.Code) {
+	x, code := value.AsNumber(v)
+	if code != api.CodeNone {
+		return 0, code
+	}
+	n, whole := dec.Whole(x)
+	if !whole {
+		return 0, api.CodeArg
+	}
+	return n, api.CodeNone
 }

@@ -13,6 +13,11 @@ func fault(c api.Code) api.Arg {
 	return api.Arg{Value: api.Value{Tag: api.Fault, Code: c}}
 }
 
+// rect is a rectangle with a fault in it.
+func rect(c api.Code) api.Arg {
+	return api.Arg{Many: true, Rect: api.Rect{Top: 1, Left: 1, Bottom: 1, Right: 1}, Entries: []api.Entry{{Cell: api.Cell{Row: 1, Col: 1}, Value: fault(c).Value}}}
+}
+
 // right are single arguments that may be, of each kind.
 func right() []api.Arg {
 	return []api.Arg{
@@ -59,7 +64,7 @@ func TestTakes(t *testing.T) {
 func TestSingles(t *testing.T) {
 	three := Count{Least: 3, Most: 3}
 	for i, a := range right() {
-		if !three.Singles([]api.Arg{a, a, a}) {
+		if !three.Singles([]api.Arg{a, a, a}) || !Single(a) {
 			t.Errorf("the right one %d is refused", i)
 		}
 	}
@@ -67,7 +72,7 @@ func TestSingles(t *testing.T) {
 		for at := range 3 {
 			args := slices.Repeat([]api.Arg{number(10000)}, 3)
 			args[at] = a
-			if three.Singles(args) {
+			if three.Singles(args) || Single(a) {
 				t.Errorf("the wrong one %d is taken at %d", i, at)
 			}
 		}
@@ -82,10 +87,28 @@ func TestFault(t *testing.T) {
 		want api.Code
 	}{
 		{nil, 0}, {[]api.Arg{}, 0}, {right()[:4], 0}, {[]api.Arg{fault(3)}, 3}, {[]api.Arg{fault(3), fault(4)}, 3}, {[]api.Arg{one, fault(8), fault(1)}, 8}, {[]api.Arg{one, {}, fault(1)}, 1},
+		{[]api.Arg{rect(3), fault(4)}, 4}, {[]api.Arg{rect(3)}, 0}, {[]api.Arg{{Many: true, Value: fault(3).Value}, fault(4)}, 4},
 	} {
 		v, is := Fault(c.args)
 		if is != (c.want != 0) || is && v != fault(c.want).Value || !is && v != (api.Value{}) {
 			t.Errorf("Fault(%+v) = %+v, %v", c.args, v, is)
+		}
+	}
+}
+
+// A value is taken for a number, which must be whole.
+func TestWhole(t *testing.T) {
+	for _, c := range []struct {
+		v    api.Value
+		n    int64
+		code api.Code
+	}{
+		{api.Value{}, 0, 0}, {number(0).Value, 0, 0}, {number(150000).Value, 15, 0}, {number(-20000).Value, -2, 0}, {number(9223372036854770000).Value, 922337203685477, 0}, {number(-9223372036854770000).Value, -922337203685477, 0},
+		{api.Value{Tag: api.Bool, Is: true}, 1, 0}, {api.Value{Tag: api.Bool}, 0, 0}, {number(1).Value, 0, api.CodeArg}, {number(-15000).Value, 0, api.CodeArg}, {number(math.MaxInt64).Value, 0, api.CodeArg}, {number(-math.MaxInt64).Value, 0, api.CodeArg},
+		{api.Value{Tag: api.Text, Str: "1"}, 0, api.CodeType}, {api.Value{Tag: api.Text}, 0, api.CodeType}, {fault(3).Value, 0, 3}, {fault(1).Value, 0, 1}, {number(math.MinInt64).Value, 0, api.CodeArg}, {api.Value{Num: 10000}, 0, api.CodeArg}, {fault(9).Value, 0, api.CodeArg},
+	} {
+		if n, code := Whole(c.v); n != c.n || code != c.code {
+			t.Errorf("Whole(%+v) = %d, %d", c.v, n, code)
 		}
 	}
 }

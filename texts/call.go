@@ -4,7 +4,7 @@ import (
 	"strings"
 
 	"oriel/api"
-	"oriel/dec"
+	"oriel/given"
 	"oriel/value"
 )
 
@@ -41,16 +41,9 @@ func (c *call) addText(v api.Value) api.Code {
 
 // addNumber puts a value, taken for a whole number, behind the others.
 func (c *call) addNumber(v api.Value) api.Code {
-	x, code := value.AsNumber(v)
-	if code != api.CodeNone {
-		return code
-	}
-	n, whole := dec.Whole(x)
-	if !whole {
-		return api.CodeArg
-	}
+	n, code := given.Whole(v)
 	c.numbers = append(c.numbers, n)
-	return api.CodeNone
+	return code
 }
 
 // numberOr is the first number, or another one, if there is none.
