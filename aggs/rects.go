@@ -2,10 +2,10 @@ package aggs
 
 import (
 	"slices"
-	"strings"
 
 	"oriel/addr"
 	"oriel/api"
+	"oriel/given"
 	"oriel/value"
 )
 
@@ -44,12 +44,6 @@ func rowByRow(e api.Entry, c api.Cell) int {
 // moved is the cell that lies in one rectangle as a cell lies in another.
 func moved(c api.Cell, from, to api.Rect) api.Cell {
 	return api.Cell{Row: c.Row - from.Top + to.Top, Col: c.Col - from.Left + to.Left}
-}
-
-// copied is a value out of an argument, with a text of its own.
-func copied(v api.Value) api.Value {
-	v.Str = strings.Clone(v.Str)
-	return v
 }
 
 // countRows is how many rows a rectangle has.
@@ -120,7 +114,7 @@ func lookedUp(c call) api.Value {
 	if !found {
 		return value.Err(api.CodeMiss)
 	}
-	return copied(has(other, nth(other.Rect, at)))
+	return given.Copied(has(other, nth(other.Rect, at)))
 }
 
 // firstPlace is how many places of a line stand ahead of the first one that has just a value, and whether there is such a one.
@@ -153,5 +147,5 @@ func indexed(c call) api.Value {
 	if i < 1 || i > int64(rows(a.Rect)) || j < 1 || j > int64(cols(a.Rect)) {
 		return value.Err(api.CodeRange)
 	}
-	return copied(has(a, api.Cell{Row: a.Rect.Top + int(i) - 1, Col: a.Rect.Left + int(j) - 1}))
+	return given.Copied(has(a, api.Cell{Row: a.Rect.Top + int(i) - 1, Col: a.Rect.Left + int(j) - 1}))
 }

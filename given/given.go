@@ -1,8 +1,9 @@
-// Package given knows of the arguments that a function is given what more than one layer asks: whether they are as many single ones as it takes, and may be, which of them is a fault, and which whole number one is; see shared/doc/08-nums.md.
+// Package given knows of the arguments that a function is given what more than one layer asks: whether they are as many single ones as it takes, and may be, which of them is a fault, which whole number one is, and what is answered of one as it is; see shared/doc/08-nums.md.
 package given
 
 import (
 	"slices"
+	"strings"
 
 	"oriel/api"
 	"oriel/dec"
@@ -57,4 +58,10 @@ func Whole(v api.Value) (int64, api.Code) {
 		return 0, api.CodeArg
 	}
 	return n, api.CodeNone
+}
+
+// Copied is a value out of an argument, with a text of its own: what is answered shares no memory with an argument.
+func Copied(v api.Value) api.Value {
+	v.Str = strings.Clone(v.Str)
+	return v
 }

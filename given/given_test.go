@@ -3,7 +3,9 @@ package given
 import (
 	"math"
 	"slices"
+	"strings"
 	"testing"
+	"unsafe"
 
 	"oriel/api"
 )
@@ -110,5 +112,18 @@ func TestWhole(t *testing.T) {
 		if n, code := Whole(c.v); n != c.n || code != c.code {
 			t.Errorf("Whole(%+v) = %d, %d", c.v, n, code)
 		}
+	}
+}
+
+// A copy is the same value, and a text of it has bytes of its own.
+func TestCopied(t *testing.T) {
+	long := api.Value{Tag: api.Text, Str: strings.Repeat("ab", 2000)}
+	for _, v := range []api.Value{{}, number(-15000).Value, fault(1).Value, fault(8).Value, {Tag: api.Bool, Is: true}, {Tag: api.Bool}, {Tag: api.Text}, {Tag: api.Text, Str: "\x00\xff"}, long} {
+		if c := Copied(v); c != v {
+			t.Errorf("Copied(%+v) = %+v", v, c)
+		}
+	}
+	if c := Copied(long); unsafe.StringData(c.Str) == unsafe.StringData(long.Str) {
+		t.Error("the copy has the bytes of what it was made from")
 	}
 }
