@@ -3,9 +3,9 @@ package aggs
 import (
 	"slices"
 
-	"oriel/addr"
 	"oriel/api"
 	"oriel/given"
+	"oriel/order"
 	"oriel/value"
 )
 
@@ -31,15 +31,7 @@ func has(a api.Arg, c api.Cell) api.Value {
 }
 
 // rowByRow tells whether an entry stands ahead of a cell, at it, or behind it.
-func rowByRow(e api.Entry, c api.Cell) int {
-	switch {
-	case addr.Before(e.Cell, c):
-		return -1
-	case addr.Before(c, e.Cell):
-		return 1
-	}
-	return 0
-}
+func rowByRow(e api.Entry, c api.Cell) int { return order.Cells(e.Cell, c) }
 
 // moved is the cell that lies in one rectangle as a cell lies in another.
 func moved(c api.Cell, from, to api.Rect) api.Cell {
