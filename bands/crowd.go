@@ -4,6 +4,7 @@ import (
 	"slices"
 
 	"oriel/api"
+	"oriel/lists"
 	"oriel/order"
 )
 
@@ -29,7 +30,7 @@ func (l *looker) remove(r api.Rect) bool {
 	if !is {
 		return false
 	}
-	l.rects = without(l.rects, i)
+	l.rects = lists.Without(l.rects, i)
 	return true
 }
 
@@ -70,16 +71,6 @@ func (k *crowd) leave(who *looker) {
 	i, _ := k.find(who.cell)
 	(*k)[i].count--
 	if (*k)[i].count == 0 {
-		*k = without(*k, i)
+		*k = lists.Without(*k, i)
 	}
-}
-
-// without is a list without what stood at a place.
-func without[T any](list []T, at int) []T {
-	list = slices.Delete(list, at, at+1)
-	if n := len(list); n&(n-1) != 0 {
-		return list
-	}
-	// Each time the length has come down to a power of two, the list moves to memory of its own: so one that had many keeps no room for those that are gone, and seldom moves.
-	return slices.Concat(list)
 }

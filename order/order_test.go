@@ -66,3 +66,20 @@ func TestRects(t *testing.T) {
 		t.Error("they are put in another order")
 	}
 }
+
+// By the rectangle, then those without Many first, of any numbers.
+func TestRefs(t *testing.T) {
+	var list []api.Ref
+	few := []int{math.MinInt, 0, 2, math.MaxInt}
+	for _, top := range few {
+		for _, left := range few {
+			for _, bottom := range few {
+				for _, right := range few {
+					r := api.Rect{Top: top, Left: left, Bottom: bottom, Right: right}
+					list = append(list, api.Ref{Rect: r}, api.Ref{Many: true, Rect: r})
+				}
+			}
+		}
+	}
+	checkOrder(t, list, Refs)
+}
